@@ -1,0 +1,1 @@
+"""Jostle: rows of deeds of which some may change places."""
