@@ -25,6 +25,10 @@ def is_list_below(values, bound):
     return True
 
 
+def is_row(minds, value):
+    return is_list_below(value, minds.kinds)
+
+
 def is_pair(value, kinds):
     if not isinstance(value, tuple) or len(value) != 2:
         return False
@@ -49,7 +53,7 @@ def check_kind(minds, kind):
 
 
 def check_row(minds, row):
-    if not is_list_below(row, minds.kinds):
+    if not is_row(minds, row):
         raise BadRow("a row must be a list of kinds")
 
 
